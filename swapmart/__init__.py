@@ -1,0 +1,1 @@
+"""Swapmart: purses under swaps, told exactly."""
