@@ -40,3 +40,10 @@ def refuse_unlike(one, other):
     """Refuse two lists of unlike lengths."""
     if len(one) != len(other):
         raise NoFit(f"lists of unlike lengths: {len(one)} and {len(other)}")
+
+
+def refuse_misfits(purses, k):
+    """Refuse a list of purses one of which hasn't k numbers."""
+    for purse in purses:
+        if len(purse) != k:
+            raise NoFit(f"a purse of {len(purse)} numbers, not of {k}")

@@ -14,6 +14,10 @@ FUNCTIONS = {
         "mixed": ["counts", "purses", "k"],
         "weighed": ["purse", "weights"],
     },
+    "swapmart.stairs": {"stair": ["rows", "k"], "with_counts": ["rows", "k"]},
+    "swapmart.rungs": {"led": ["rungs", "purse"], "is_made": ["rungs", "purse"], "is_stair": ["rows"]},
+    "swapmart.papers": {"same": ["mart", "one", "other"], "holds": ["mart", "one", "other", "paper"]},
+    "swapmart.worths": {"plain": ["mart", "purse"], "span": ["mart", "purse"]},
 }
 
 
