@@ -30,7 +30,8 @@ def holds(mart, one, other, paper):
         counts = paper[1]
         return len(counts) == len(swaps) and mixed(counts, swaps, k) == way
     weights, modulus = paper[1], paper[2]
-    if len(weights) != k or modulus < 0 or modulus == 1:
+    # A modulus of 1 needs no word here: it divides everything, so nothing is parted by it.
+    if len(weights) != k or modulus < 0:
         return False
     if not all([_divides(modulus, weighed(swap, weights)) for swap in swaps]):
         return False

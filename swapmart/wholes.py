@@ -29,3 +29,11 @@ def round_by(many, size):
     """The rest, from 0 to size - 1, that a number leaves by a size; of size 0 the number itself."""
     # Nought divides nought alone, so by size 0 each number is a rest of its own.
     return many if size == 0 else many % size
+
+
+def multiplied(numbers):
+    """All numbers of a list multiplied, of none 1."""
+    told = 1
+    for number in numbers:
+        told = told * number
+    return told

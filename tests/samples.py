@@ -149,8 +149,9 @@ def check_own(test, function, *handed):
     first = copy.deepcopy(told)
     again = function(*copy.deepcopy(handed))
     test.assertEqual(again, first)
-    ids = [id(found) for thing in (told, again, handed) for found in lists_in(thing)]
+    ids = [id(found) for found in lists_in(told) + lists_in(again)]
     test.assertEqual(len(set(ids)), len(ids), "two lists are one")
+    test.assertFalse(set(ids) & {id(found) for found in lists_in(handed)}, "a list handed in is told")
     test.assertTrue(all(is_whole(number) for number in numbers_in(told)) or told is True or told is False)
     spoil(handed)
     test.assertEqual(told, first)

@@ -18,6 +18,13 @@ FUNCTIONS = {
     "swapmart.rungs": {"led": ["rungs", "purse"], "is_made": ["rungs", "purse"], "is_stair": ["rows"]},
     "swapmart.papers": {"same": ["mart", "one", "other"], "holds": ["mart", "one", "other", "paper"]},
     "swapmart.worths": {"plain": ["mart", "purse"], "span": ["mart", "purse"]},
+    "swapmart.wheels": {
+        "wheels": ["mart"],
+        "readings": ["told", "purse"],
+        "purse_of": ["told", "numbers", "k"],
+    },
+    "swapmart.counts": {"many_worths": ["mart"], "all_worths": ["mart"]},
+    "swapmart.stocks": {"stock": ["mart", "purses"], "within": ["mart", "purses", "purse"]},
 }
 
 

@@ -157,6 +157,11 @@ class TestIsStair(unittest.TestCase):
             # Of a kind without a place each number may stand.
             self.assertIs(is_stair([[1, number, 0], [0, 0, 3]]), True)
 
+    def test_rows_of_unlike_lengths(self):
+        for rows in [[[1, 0], [1]], [[1], [0, 1]], [[1, 0], [0, 1, 0]], [[1, 0, 0], [0, 1]], [[], [1]], [[1], []]]:
+            with self.subTest(rows=rows):
+                self.assertIs(is_stair(rows), False)
+
     def test_of_all_small_rows(self):
         numbers = [-1, 0, 1, 2]
         two = [list(row) for row in itertools.product(numbers, repeat=2)]
