@@ -12,10 +12,15 @@ def same(mart, one, other):
     """A paper on two purses: ("same", counts) or ("apart", weights, modulus)."""
     k, swaps = mart
     refuse_misfits(swaps + [one, other], k)
-    rungs = marked_stair(swaps)
-    rest = led(rungs, less(other, one) + [0] * len(swaps))[1]
+    return paper_on(less(other, one), marked_stair(swaps), len(swaps))
+
+
+def paper_on(way, tall, many):
+    """A paper on two purses a way apart, told the marked stair of the swaps and how many swaps there are."""
+    k = len(way)
+    rest = led(tall, way + [0] * many)[1]
     if any(rest[:k]):
-        weights, modulus = _parting([rung[:k] for rung in rungs if place_of(rung) < k], rest[:k])
+        weights, modulus = parting([rung[:k] for rung in tall if place_of(rung) < k], rest[:k])
         return "apart", weights, modulus
     # The marks tell what was taken from the purse, so they are the counts with the other sign.
     return "same", taken(rest[k:], -1)
@@ -43,7 +48,7 @@ def _divides(modulus, number):
     return round_by(number, modulus) == 0
 
 
-def _parting(rungs, rest):
+def parting(rungs, rest):
     """A dial for a stair whose modulus doesn't divide what a rest, led down and not all noughts, weighs."""
     for rung in rungs:
         at = place_of(rung)

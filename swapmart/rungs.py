@@ -47,3 +47,8 @@ def place_of(purse):
         if number != 0:
             return at
     return len(purse)
+
+
+def leads(rungs):
+    """What each rung of a stair has at its place."""
+    return [rung[place_of(rung)] for rung in rungs]

@@ -48,6 +48,14 @@ def marked_stair(rows):
     return tall
 
 
+def under(tall, k):
+    """What the rungs of a stair that have k noughts ahead have behind these.
+
+    Where each row of the stair had a tail behind its k numbers, these are the tails of all that makes k noughts.
+    """
+    return [rung[k:] for rung in tall if place_of(rung) >= k]
+
+
 def _with_row(rungs, row):
     """The stair of a stair's rungs and one row more."""
     ahead, behind = [], rungs

@@ -99,6 +99,53 @@ def single(k, kind):
     return [1 if at == kind else 0 for at in range(k)]
 
 
+def singles(k):
+    return [single(k, kind) for kind in range(k)]
+
+
+def made_of(rungs, purse):
+    return not any(left_of(rungs, purse))
+
+
+def moved(chance, purse, swaps):
+    """A purse of the same worth."""
+    way = sum_of(some_purse(chance, len(swaps)), swaps, len(purse))
+    return [mine + more for mine, more in zip(purse, way)]
+
+
+def product_of(numbers):
+    told = 1
+    for number in numbers:
+        told *= number
+    return told
+
+
+def leads_of(rungs):
+    return product_of(row[place(row)] for row in rungs)
+
+
+def let_by(chance, k, l, numbers):
+    """Two marts and a tariff between them that is let by."""
+    swaps, tariff = some_rows(chance, 3, k, numbers), some_rows(chance, k, l, numbers)
+    other_swaps = [sum_of(swap, tariff, l) for swap in swaps] + some_rows(chance, 2, l, numbers)
+    chance.shuffle(other_swaps)
+    return (k, swaps), (l, other_swaps), tariff
+
+
+def check_stair(test, rungs, k):
+    """A stair of k kinds, by the words of the document."""
+    test.assertIs(type(rungs), list)
+    test.assertTrue(all(type(row) is list and len(row) == k for row in rungs))
+    test.assertTrue(stands(rungs))
+
+
+def check_dial(test, weights, modulus, rows, purse):
+    """A dial for the rows whose modulus doesn't divide what the purse weighs."""
+    test.assertIs(type(weights), list)
+    test.assertTrue(all(divides(modulus, weight_of(row, weights)) for row in rows))
+    test.assertFalse(divides(modulus, weight_of(purse, weights)))
+
+
 def determinant(rows):
     if not rows:
         return 1

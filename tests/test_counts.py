@@ -4,20 +4,13 @@ import itertools
 import random
 import unittest
 
-from samples import (GREAT, bad_lists, check_own, check_refused, great_shapes, left_of, shapes, single, some_purse,
-                     some_rows, sum_of)
+from samples import (GREAT, bad_lists, check_own, check_refused, great_shapes, left_of, product_of, shapes, single,
+                     some_purse, some_rows, sum_of)
 from swapmart.counts import all_worths, many_worths
 from swapmart.errors import TooMany
 from swapmart.stairs import stair
 from swapmart.wheels import wheels
 from swapmart.worths import plain
-
-
-def product_of(numbers):
-    told = 1
-    for number in numbers:
-        told *= number
-    return told
 
 
 class TestManyWorths(unittest.TestCase):

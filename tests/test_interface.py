@@ -25,6 +25,19 @@ FUNCTIONS = {
     },
     "swapmart.counts": {"many_worths": ["mart"], "all_worths": ["mart"]},
     "swapmart.stocks": {"stock": ["mart", "purses"], "within": ["mart", "purses", "purse"]},
+    "swapmart.meets": {
+        "joined": ["one", "other", "k"],
+        "met": ["one", "other", "k"],
+        "lies_in": ["inner", "outer", "k"],
+        "beside": ["inner", "outer", "k"],
+    },
+    "swapmart.tariffs": {
+        "sent": ["tariff", "purse", "l"],
+        "goes": ["mart", "other_mart", "tariff"],
+        "behind": ["first", "second", "l"],
+    },
+    "swapmart.losses": {"lost": ["mart", "other_mart", "tariff"], "come_to": ["mart", "other_mart", "tariff"]},
+    "swapmart.alike": {"alike": ["mart", "other_mart"]},
 }
 
 
