@@ -38,6 +38,9 @@ FUNCTIONS = {
     },
     "swapmart.losses": {"lost": ["mart", "other_mart", "tariff"], "come_to": ["mart", "other_mart", "tariff"]},
     "swapmart.alike": {"alike": ["mart", "other_mart"]},
+    "swapmart.splits": {"split_off": ["mart", "purses"]},
+    "swapmart.dials": {"round_of": ["mart"], "silent": ["mart", "purses"], "hushed": ["mart", "dials"]},
+    "swapmart.texts": {"read": ["text"], "shown": ["pairs"]},
 }
 
 
@@ -55,6 +58,14 @@ class TestInterface(unittest.TestCase):
                     for parameter in parameters:
                         self.assertIs(parameter.default, parameter.empty)
                         self.assertEqual(parameter.kind, parameter.POSITIONAL_OR_KEYWORD)
+
+    def test_the_desk_is_defined_in_its_file(self):
+        desk = getattr(importlib.import_module("swapmart.desk"), "Desk")
+        self.assertTrue(inspect.isclass(desk))
+        self.assertEqual((desk.__module__, desk.__name__), ("swapmart.desk", "Desk"))
+        self.assertEqual(list(inspect.signature(desk).parameters), [])
+        self.assertTrue(inspect.isfunction(vars(desk)["say"]))
+        self.assertEqual(list(inspect.signature(desk.say).parameters), ["self", "row"])
 
 
 class TestFiles(unittest.TestCase):
